@@ -59,8 +59,9 @@ func (m *machine) put(text string) {
 		text = strings.TrimPrefix(text, "\n")
 	}
 	m.behind = strings.HasSuffix(text, "\r")
-	text = strings.NewReplacer("\r\n", "\n", "\r", "\n", "\x00", "\uFFFD").Replace(text)
-	m.text = m.text[m.at:] + text
+	text = strings.ReplaceAll(text, "\r\n", "\n")
+	text = strings.ReplaceAll(text, "\r", "\n")
+	m.text = m.text[m.at:] + strings.ReplaceAll(text, "\x00", "\uFFFD")
 	m.at = 0
 }
 

@@ -33,7 +33,13 @@ func plain(s string) bool {
 
 // Link is a link as those who follow it read it (L2).
 func Link(s string) string {
-	return strings.Trim(strings.NewReplacer("\t", "", "\n", "").Replace(Text(s)), " ")
+	inOneLine := strings.Map(func(r rune) rune {
+		if r == '\t' || r == '\n' {
+			return -1
+		}
+		return r
+	}, Text(s))
+	return strings.Trim(inOneLine, " ")
 }
 
 // Scheme is what a link begins with, up to the : (L2).
