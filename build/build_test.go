@@ -113,6 +113,76 @@ func TestTables(t *testing.T) {
 	})
 }
 
+// names are the document's, by what they are.
+func names(kind string) []string {
+	return strings.Fields(map[string]string{
+		"blocks":   "address article aside blockquote center details dialog dir div dl fieldset figcaption figure footer form header hgroup main menu nav ol section summary ul",
+		"headings": "h1 h2 h3 h4 h5 h6",
+		"formed":   "b big code em font i s small strike strong tt u",
+		"marked":   "applet marquee object",
+		"single":   "area br embed img input keygen wbr",
+		"head":     "base basefont bgsound link meta",
+		"parts":    "caption col colgroup tbody td tfoot th thead tr",
+	}[kind])
+}
+
+// Each name of a kind.
+func TestKinds(t *testing.T) {
+	cases := map[string]string{}
+	for _, n := range append(names("blocks"), "pre", "listing") {
+		cases["<p>a<"+n+">b"] = "<p>('a')<" + n + ">('b')"
+		cases["<"+n+"><p>a</"+n+">b"] = "<" + n + ">(<p>('a'))'b'"
+		cases["<"+n+"><x>a</"+n+">b"] = "<" + n + ">(<x>('a'))'b'"
+	}
+	for _, n := range names("headings") {
+		cases["<p>a<"+n+">b"] = "<p>('a')<" + n + ">('b')"
+		for _, o := range names("headings") {
+			cases["<"+n+">a<"+o+">b"] = "<" + n + ">('a')<" + o + ">('b')"
+			cases["<"+n+"><x>a</"+o+">b"] = "<" + n + ">(<x>('a'))'b'"
+		}
+	}
+	for _, n := range append(names("formed"), "a", "nobr") {
+		cases["<p><"+n+">a</p>b"] = "<p>(<" + n + ">('a'))<" + n + ">('b')"
+		cases["<"+n+">a<div>b</"+n+">c"] = "<" + n + ">('a')<div>(<" + n + ">('b')'c')"
+	}
+	for _, n := range names("marked") {
+		cases["<p><b><"+n+"></"+n+"></p>x"] = "<p>(<b>(<" + n + ">))<b>('x')"
+		cases["<p><b></p><"+n+"><i></"+n+">x"] = "<p>(<b>)<b>(<" + n + ">(<i>)'x')"
+		cases["<"+n+"></p></b>x"] = "<" + n + ">(<p>'x')"
+	}
+	for _, n := range names("single") {
+		cases["<p><b></p><"+n+">x"] = "<p>(<b>)<b>(<" + n + ">'x')"
+	}
+	for _, n := range names("head") {
+		cases["<p><b></p><"+n+">x"] = "<p>(<b>)<" + n + "><b>('x')"
+		cases["<head></head><"+n+">"] = "html: <head>(<" + n + ">)<body>"
+	}
+	for _, n := range names("parts") {
+		cases["<p>a<"+n+">b"] = "<p>('ab')"
+	}
+	check(t, cases)
+}
+
+// Where a mode passes over a mark, the next one is done by that mode.
+func TestPassedOver(t *testing.T) {
+	check(t, map[string]string{
+		"</p> x": "'x'", "</head> x": "html: <head>' '<body>('x')", "</body> x": "' x'", "</html> x": "' x'", "</br> x": "<br>' x'", "<html></p> x": "'x'", "<html></head> x": "html: <head>' '<body>('x')", "<html></body> x": "' x'", "<html></html> x": "' x'", "<html><html> x": "'x'",
+		"<head></p> x": "html: <head>(' ')<body>('x')", "<head></body> x": "' x'", "<head></html> x": "' x'", "<head></br> x": "<br>' x'", "<head><html> x": "html: <head>(' ')<body>('x')", "<head><head> x": "html: <head>(' ')<body>('x')",
+		"<head></head></p> x": "html: <head>' '<body>('x')", "<head></head></head> x": "html: <head>' '<body>('x')", "<head></head></body> x": "' x'", "<head></head></html> x": "' x'", "<head></head></br> x": "<br>' x'", "<head></head><html> x": "html: <head>' '<body>('x')", "<head></head><head> x": "html: <head>' '<body>('x')", "<head></head><frameset> x": "html: <head>' '<body>('x')",
+		"<table><colgroup><html><col>": "<table>(<colgroup>(<col>))", "<table><colgroup></col><col>": "<table>(<colgroup>(<col>))", "<table><colgroup></colgroup><col>": "<table>(<colgroup><colgroup>(<col>))",
+	})
+}
+
+// What a table's modes close, and what they leave open.
+func TestTablesClose(t *testing.T) {
+	check(t, map[string]string{
+		"<table><tbody></tbody> ": "<table>(<tbody>' ')", "<table><tbody></tfoot> ": "<table>(<tbody>(' '))", "<table><tr></tr> ": "<table>(<tbody>(<tr>' '))", "<table><tr><b></tr> ": "<b><table>(<tbody>(<tr>' '))", "<table><tbody><b></tbody> ": "<b><table>(<tbody>' ')", "<table><tbody> ": "<table>(<tbody>(' '))", "<table><thead> ": "<table>(<thead>(' '))", "<table><tfoot> ": "<table>(<tfoot>(' '))", "<table><tr> ": "<table>(<tbody>(<tr>(' ')))",
+		"<table><tbody><b><tr>": "<b><table>(<tbody>(<tr>))", "<table><tbody><b><td>x": "<b><table>(<tbody>(<tr>(<td>('x'))))", "<table><tr><b><td>x": "<b><table>(<tbody>(<tr>(<td>('x'))))", "<table><b><caption>x": "<b><table>(<caption>('x'))", "<table><b><tr>": "<b><table>(<tbody>(<tr>))", "<table><b><col>": "<b><table>(<colgroup>(<col>))", "<table><b><tbody>": "<b><table>(<tbody>)",
+		"<table><td><table></table><b></table>y": "<table>(<tbody>(<tr>(<td>(<table><b>))))'y'", "<table><th><table></table><b></table>y": "<table>(<tbody>(<tr>(<th>(<table><b>))))'y'", "<table><caption><table></table></caption>x<td>y": "'x'<table>(<caption>(<table>)<tbody>(<tr>(<td>('y'))))", "<table><caption><b></caption>x": "'x'<table>(<caption>(<b>))", "<table><td><b></td>x": "'x'<table>(<tbody>(<tr>(<td>(<b>))))", "<table><td><b><tr>x": "'x'<table>(<tbody>(<tr>(<td>(<b>))<tr>))",
+		"<p>a<li>b": "<p>('a')<li>('b')", "<p>a<dd>b": "<p>('a')<dd>('b')", "<p>a<xmp>b": "<p>('a')<xmp>('b')", "<p>a<hr>b": "<p>('a')<hr>'b'", "<dt><p></dt>a": "<dt>(<p>)'a'", "<li><address><li>": "<li>(<address>)<li>", "<a>1<table><a>2</table>3": "<a>('1'<a>('2')<table>)<a>('3')", "<b><b><b><b><i></b></b></b></b>x": "<b>(<b>(<b>(<b>(<i>))))<i>('x')", "<b><b><b><b></b></b></b><x></b>y": "<b>(<b>(<b>(<b>))<x>)'y'", "<nobr>1<p><nobr>2": "<nobr>('1')<p>(<nobr><nobr>('2'))", "<p><nobr></p><nobr>x": "<p>(<nobr>)<nobr><nobr>('x')",
+	})
+}
+
 // Drawings and formulas.
 func TestForeign(t *testing.T) {
 	check(t, map[string]string{

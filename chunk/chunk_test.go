@@ -75,6 +75,7 @@ func TestChunked(t *testing.T) {
 	check(t, b, "0\r\n\r\n", outcome{"", 5, true, 0})
 	check(t, b, "1\r\n\r\r\n1;\t\xff\r\n\n\r\n0;\r\nA:\r\nb:\tc \r\n\r\n0", outcome{"\r\n", 32, true, 0})
 	check(t, b, "a\r\n0123456789\r\nB\r\n0123456789a\r\n", outcome{"01234567890123456789a", 31, false, 0})
+	check(t, b, "0; ~ \r\n\r\n", outcome{"", 9, true, 0})
 	check(t, b, "3\r\nab", outcome{"ab", 5, false, 0})
 	line := "0;" + strings.Repeat("x", 60) + "\r\n"
 	check(t, b, line+"\r\n", outcome{"", 66, true, 0})

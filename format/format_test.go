@@ -272,6 +272,10 @@ func TestRestore(t *testing.T) {
 	w.s.Pop()
 	w.l.Restore()
 	w.check(t, "behind a marker", "<body><a><b><i></i></b><b><i></i></b></a><u></u><u></u></body>", "body u", "a b i | u")
+	w = nest("b* i*")
+	w.s.Pop()
+	w.l.Restore()
+	w.check(t, "the lowest one is open", "<b><i></i><i></i></b>", "b i", "b i")
 	w = begin(0)
 	if e := w.l.Restore(); e != api.OK {
 		t.Errorf("Restore of nothing: %d", e)
@@ -328,6 +332,37 @@ func TestAdopt(t *testing.T) {
 		t.Errorf("Adopt of one that is not open: %v, %d", ok, e)
 	}
 	w.check(t, "not open", "<body><b><p></p></b></body>", "body p", "")
+}
+
+// M4: which numbers stand where behind a first round; the second one can't make its element any more, so what the first one made is to be seen.
+func TestAdoptNumbers(t *testing.T) {
+	for _, a := range []struct {
+		names          string // open, each in the one ahead, numbered from 1 on
+		push           []int
+		most           int
+		entries, stack []int
+		tree           string
+	}{
+		{"body b i p p", []int{2, 3}, 7, []int{6, 7}, []int{1, 6, 4, 7, 5}, "<body><b><i></i></b><i><p><b></b><p></p></p></i></body>"},
+		{"body b p i p", []int{2, 4}, 6, []int{6, 4}, []int{1, 3, 6, 4, 5}, "<body><b></b><p><b><i><p></p></i></b></p></body>"},
+		{"body b s i u em p p", []int{3, 2, 4, 5, 6}, 12, []int{11, 10, 9, 12}, []int{1, 11, 10, 9, 7, 12, 8}, "<body><b><s><i><u><em></em></u></i></s></b><i><u><em><p><b></b><p></p></p></em></u></i></body>"},
+		{"body b s i u em p p", []int{2, 6, 3, 4, 5}, 12, []int{9, 12, 11, 10}, []int{1, 11, 10, 9, 7, 12, 8}, "<body><b><s><i><u><em></em></u></i></s></b><i><u><em><p><b></b><p></p></p></em></u></i></body>"},
+		{"body b i u p p", []int{4, 3, 2}, 9, []int{7, 9, 8}, []int{1, 8, 7, 5, 9, 6}, "<body><b><i><u></u></i></b><i><u><p><b></b><p></p></p></u></i></body>"},
+	} {
+		w := begin(a.most)
+		for _, n := range strings.Fields(a.names) {
+			w.l.Insert(api.SpaceHTML, n, nil)
+		}
+		for _, n := range a.push {
+			w.l.Push(n)
+		}
+		if ok, e := w.l.Adopt("b"); ok || e != api.ErrNodes {
+			t.Errorf("%s: %v, %d", a.names, ok, e)
+		}
+		if !reflect.DeepEqual(w.l.All(), a.entries) || !reflect.DeepEqual(w.s.All(), a.stack) || w.show(0) != a.tree {
+			t.Errorf("%s: entries %v, open %v, %s", a.names, w.l.All(), w.s.All(), w.show(0))
+		}
+	}
 }
 
 // M4: eight rounds at most.

@@ -39,7 +39,7 @@ func TestRequest(t *testing.T) {
 	}
 	for _, s := range []string{
 		"a / HTTP/1.1\r\nhOST:a\r\n\r\n", "!#$%&'*+-.^_`|~9 /?a=b&[]{}\" HTTP/1.1\r\nHost:\t a.b-C9:12345\t \r\n\r\n",
-		"ABCDEFGHIJKLMNOP / HTTP/1.1\r\nHost: a\r\n\r\n", "trace / HTTP/1.1\r\nHost: a\r\n\r\n", "get / HTTP/1.1\r\nHost: a:0\r\nx:\r\ny: a\tb é\x80 c : d\r\n\r\n",
+		"ABCDEFGHIJKLMNOP / HTTP/1.1\r\nHost: a\r\n\r\n", "trace / HTTP/1.1\r\nHost: a\r\n\r\n", "GET /!\"$~ HTTP/1.1\r\nHost: AZaz09.-:09999\r\n\r\n", "get / HTTP/1.1\r\nHost: a:0\r\nx:\r\ny: a\tb é\x80 c : d\r\n\r\n",
 		first + strings.Repeat("a: b\r\n", 31) + "Host: -.\r\n\r\n",
 	} {
 		q, err := Request(s)
@@ -68,7 +68,7 @@ func TestRequestRefused(t *testing.T) {
 		{first + "Host\r\n", 16, api.ErrName}, {first + ": a\r\n", 16, api.ErrName}, {first + "a b: c\r\n", 16, api.ErrName}, {first + "a(: c\r\n", 16, api.ErrName}, {first + "é: c\r\n", 16, api.ErrName},
 		{first + "a \t : c\r\n", 17, api.ErrBlank}, {first + "a b \t: \x00\r\n", 19, api.ErrBlank}, {first + "(: \x00\r\n", 16, api.ErrName}, {first + "a:\x00\r\n", 18, api.ErrValue}, {first + "ab: c\x7f\x01\r\n", 21, api.ErrValue}, {first + "ab:  \x0b\r\n", 21, api.ErrValue},
 		{first + h + "x", 27, api.ErrArg}, {first + "\r\nx", 18, api.ErrArg}, {first + h + "\r\n", 27, api.ErrArg},
-		{first + "Host: a\r\nhost: a\r\n\r\n", 0, api.ErrHost}, {first + "Host:\r\n\r\n", 0, api.ErrHost}, {first + "Host: a:\r\n\r\n", 0, api.ErrHost}, {first + "Host: a:123456\r\n\r\n", 0, api.ErrHost}, {first + "Host: a:8x\r\n\r\n", 0, api.ErrHost}, {first + "Host: :80\r\n\r\n", 0, api.ErrHost}, {first + "Host: a_b\r\n\r\n", 0, api.ErrHost}, {first + "Host: a b\r\n\r\n", 0, api.ErrHost}, {first + "Host: [::1]\r\n\r\n", 0, api.ErrHost}, {first + "Host: a:1:2\r\n\r\n", 0, api.ErrHost}, {first + "Host: a@b\r\n\r\n", 0, api.ErrHost}, {first + "Host: a/\r\n\r\n", 0, api.ErrHost},
+		{first + "Host: a\r\nhost: a\r\n\r\n", 0, api.ErrHost}, {first + "Host:\r\n\r\n", 0, api.ErrHost}, {first + "Host: a:\r\n\r\n", 0, api.ErrHost}, {first + "Host: a:123456\r\n\r\n", 0, api.ErrHost}, {first + "Host: a:8x\r\n\r\n", 0, api.ErrHost}, {first + "Host: :80\r\n\r\n", 0, api.ErrHost}, {first + "Host: a_b\r\n\r\n", 0, api.ErrHost}, {first + "Host: a b\r\n\r\n", 0, api.ErrHost}, {first + "Host: [::1]\r\n\r\n", 0, api.ErrHost}, {first + "Host: a:1:2\r\n\r\n", 0, api.ErrHost}, {first + "Host: a@b\r\n\r\n", 0, api.ErrHost}, {first + "Host: [\r\n\r\n", 0, api.ErrHost}, {first + "Host: {\r\n\r\n", 0, api.ErrHost}, {first + "Host: `\r\n\r\n", 0, api.ErrHost}, {first + "Host: ,\r\n\r\n", 0, api.ErrHost}, {first + "Host: a:;\r\n\r\n", 0, api.ErrHost}, {first + "Host: a/\r\n\r\n", 0, api.ErrHost},
 		{strings.Repeat("x", 2049), 2048, api.ErrHead}, {"\n" + strings.Repeat("x", 9999), 2048, api.ErrHead}, {strings.Repeat("x", 2048), 2048, api.ErrShort},
 	} {
 		q, err := Request(a.s)

@@ -181,6 +181,32 @@ func TestAgain(t *testing.T) {
 	}
 }
 
+// R2: a client is settled first: what it took makes room for the answer's rest, and the next request is read at once.
+func TestSettledFirst(t *testing.T) {
+	l := New(api.Config{In: 100, Out: 50, Read: 100})
+	all(t, l, do(api.DoOpen), do(api.DoFeed, 0, get), do(api.DoPick, 0), do(api.DoUpTake, 0, 99), do(api.DoUpFeed, 0, "HTTP/1.1 204 x\r\n\r\n"), do(api.DoPick, 0), do(api.DoFeed, 0, get))
+	all(t, l, do(api.DoPick, 0))
+	if n := l.Log().Clients[0].Requests; n != 1 {
+		t.Errorf("a request is read while the answer is not written: %d", n)
+	}
+	all(t, l, do(api.DoTake, 0, 50), do(api.DoPick, 0))
+	if log := l.Log(); log.Clients[0].Requests != 2 || len(log.Upstreams[0].Written) != 2*len(get) {
+		t.Errorf("the next request: %+v", log)
+	}
+}
+
+// R2: an upstream that breaks off while its answer is awaited.
+func TestUpBreaks(t *testing.T) {
+	l := New(api.Config{In: 200, Out: 200, Read: 100})
+	all(t, l, do(api.DoOpen), do(api.DoFeed, 0, get), do(api.DoPick, 0), do(api.DoUpFeed, 0, "HTTP"), do(api.DoUpBreak, 0), do(api.DoPick, 0))
+	if log := l.Log(); string(log.Clients[0].Written) != string(harden.Fail(502, false)) || log.Clients[0].State != api.Closing || log.Upstreams[0].State != api.Aborted {
+		t.Errorf("Log: %+v", log)
+	}
+	if e := l.Do(do(api.DoUpFeed, 0, "x")); e != api.ErrNone {
+		t.Errorf("its upstream: %d", e)
+	}
+}
+
 // R2: what Arrive does not take is lost; and a client that breaks off.
 func TestLost(t *testing.T) {
 	l := New(config())

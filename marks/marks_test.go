@@ -128,6 +128,10 @@ func examples() map[string]string {
 		`<a b=1 B=2 b=3>`:                      `<a b=1;>`,
 		`<a b='&copy=&copy;&lt' c=&ampx;&amp>`: `<a b=&copy=©<; c=&ampx;&;>`,
 		`&lt;a>&copyx&am</>p;`:                 `[<a>©x&amp;]`,
+		`<textarea>&lt;<b></textarea>`:         `<textarea>[<<b>]</textarea>`,
+		`<style>&lt;<b></style>`:               `<style>[&lt;<b>]</style>`,
+		`<z><Z></z></Z><az09>`:                 `<z><z></z></z><az09>`,
+		`<@><[><{></@><` + "`" + `>`:           "[<@><[><{>]#[<`>]",
 		`<textarea>&lt;</textarea>`:            `<textarea>[<]</textarea>`,
 		`<xmp>&lt;</x></xmp x='>'>`:            `<xmp>[&lt;</x>]</xmp>`,
 		`<style>a</style/>b`:                   `<style>[a]</style>[b]`,
@@ -236,6 +240,7 @@ func TestMode(t *testing.T) {
 		name, want string
 	}{
 		{api.ModeRefs, "b", "[a<<b>]</b>[c]<b>"}, {api.ModeRaw, "b", "[a&lt;<b>]</b>[c]<b>"}, {api.ModeData, "b", "[a<]<b></b>[c]<b>"}, {api.ModeRaw, "c", "[a&lt;<b></B >c<b>]"}, {api.ModeRaw, "b1", "[a&lt;<b></B >c<b>]"},
+		{api.ModeRaw, "az09", "[a&lt;<b></B >c<b>]"}, {api.ModeRaw, "z", "[a&lt;<b></B >c<b>]"}, {api.ModeRaw, "b:", "[a<]<b></b>[c]<b>"}, {api.ModeRaw, "b/", "[a<]<b></b>[c]<b>"}, {api.ModeRaw, "b{", "[a<]<b></b>[c]<b>"}, {api.ModeRaw, "b`", "[a<]<b></b>[c]<b>"},
 		{api.ModeRaw, "", "[a<]<b></b>[c]<b>"}, {api.ModeRaw, "B", "[a<]<b></b>[c]<b>"}, {api.ModeRaw, "1b", "[a<]<b></b>[c]<b>"}, {api.ModeRaw, "b-", "[a<]<b></b>[c]<b>"}, {3, "b", "[a<]<b></b>[c]<b>"}, {-1, "b", "[a<]<b></b>[c]<b>"},
 	} {
 		r := New(s)

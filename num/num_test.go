@@ -42,7 +42,7 @@ func TestHex(t *testing.T) {
 	check(t, "Hex", Hex, []asked{
 		{"0", 0, 0}, {"1aF", 431, 0}, {"abcdef", 0xabcdef, 0}, {"ABCDEF", 0xabcdef, 0}, {"0009", 9, 0},
 		{"7fffffffffffffff", math.MaxInt64, 0}, {"8000000000000000", 0, api.ErrOver}, {"10000000000000000", 0, api.ErrOver}, {strings.Repeat("f", 99), 0, api.ErrOver},
-		{"0x1", 0, api.ErrNumber}, {"", 0, api.ErrNumber}, {"g", 0, api.ErrNumber}, {"G", 0, api.ErrNumber}, {"@", 0, api.ErrNumber}, {"`", 0, api.ErrNumber}, {"1 ", 0, api.ErrNumber}, {"-1", 0, api.ErrNumber},
+		{"0x1", 0, api.ErrNumber}, {"", 0, api.ErrNumber}, {":", 0, api.ErrNumber}, {"/", 0, api.ErrNumber}, {"g", 0, api.ErrNumber}, {"G", 0, api.ErrNumber}, {"@", 0, api.ErrNumber}, {"`", 0, api.ErrNumber}, {"1 ", 0, api.ErrNumber}, {"-1", 0, api.ErrNumber},
 		{"ffffffffffffffffffg", 0, api.ErrNumber},
 	})
 }

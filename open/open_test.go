@@ -275,6 +275,28 @@ func TestStack(t *testing.T) {
 	}
 }
 
+// O5: the lowest one, too, is found, taken, swapped, and has others above it.
+func TestStackLowest(t *testing.T) {
+	s := three().Stack()
+	s.Push(1)
+	if s.Find(1) != 0 {
+		t.Errorf("Find: %d", s.Find(1))
+	}
+	s.Insert(1, 3)
+	s.Swap(1, 2)
+	if !reflect.DeepEqual(s.All(), []int{2, 3}) {
+		t.Errorf("Insert, Swap: %v", s.All())
+	}
+	s.Remove(2)
+	if !reflect.DeepEqual(s.All(), []int{3}) || !s.Has(ScopeAny, "c") || !s.HasNode(3) {
+		t.Errorf("Remove, Has: %v", s.All())
+	}
+	s.Until("c")
+	if len(s.All()) != 0 {
+		t.Errorf("Until: %v", s.All())
+	}
+}
+
 // pile opens new elements: names, those of another space as svg:name or math:name.
 func pile(names ...string) (*Tree, *Stack) {
 	t := New(99)

@@ -65,12 +65,12 @@ func TestLink(t *testing.T) {
 			t.Errorf("Link(%q): %q", s, Link(s))
 		}
 	}
-	for s, want := range map[string]string{"JavaScript:x": "javascript", "http://a": "http", "a:": "a", "A1+-.:b:c": "a1+-."} {
+	for s, want := range map[string]string{"JavaScript:x": "javascript", "http://a": "http", "a:": "a", "A1+-.:b:c": "a1+-.", "zZa09:x": "zza09"} {
 		if n, ok := Scheme(s); n != want || !ok {
 			t.Errorf("Scheme(%q): %q, %v", s, n, ok)
 		}
 	}
-	for _, s := range []string{"a/b:c", "1:x", ":x", "x", "", "+a:b", "a b:c", "é:x", "a?b:c", "a#:b", "java\tscript:x", " http:x"} {
+	for _, s := range []string{"a/b:c", "1:x", ":x", "x", "", "+a:b", "a b:c", "é:x", "a?b:c", "a#:b", "java\tscript:x", " http:x", "@:x", "[:x", "`:x", "{:x", "a;b:x", "a,:x", "a@:x"} {
 		if n, ok := Scheme(s); n != "" || ok {
 			t.Errorf("Scheme(%q): %q, %v", s, n, ok)
 		}
@@ -83,7 +83,7 @@ type asked struct{ elem, name, value, form string }
 func TestValue(t *testing.T) {
 	long := strings.Repeat("x", 120)
 	for _, a := range []asked{
-		{"a", "href", "HTTP://a", "HTTP://a"}, {"meter", "value", "1e0", "1"}, {"p", "dir", "RTL", "rtl"}, {"a", "href", "", ""}, {"a", "href", " /x\ty ", "/xy"}, {"a", "href", "mailto:a", "mailto:a"}, {"a", "href", "https:", "https:"}, {"a", "href", "a/b:c", "a/b:c"}, {"img", "src", "http:x", "http:x"}, {"img", "src", "//x", "//x"},
+		{"a", "href", "HTTP://a", "HTTP://a"}, {"meter", "value", "1e0", "1"}, {"p", "dir", "RTL", "rtl"}, {"a", "href", "", ""}, {"a", "href", " /x\ty ", "/xy"}, {"a", "href", "mailto:a", "mailto:a"}, {"a", "href", "https:", "https:"}, {"a", "href", "a/b:c", "a/b:c"}, {"img", "src", "http:x", "http:x"}, {"img", "src", "//x", "//x"}, {"img", "src", "https:x", "https:x"}, {"p", "lang", "z-Z09A", "z-Z09A"}, {"p", "title", " ~", " ~"},
 		{"div", "title", "a\x00<b>", "a<b>"}, {"br", "title", "", ""}, {"td", "lang", "en-GB", "en-GB"}, {"hr", "lang", "abcdefghijklmnop", "abcdefghijklmnop"}, {"li", "dir", "Auto", "auto"}, {"u", "dir", "ltr", "ltr"}, {"img", "alt", "\r\n", "\n"}, {"img", "width", "9999", "9999"}, {"img", "height", "0", "0"}, {"ol", "start", "999999", "999999"}, {"ol", "start", "0", "0"}, {"td", "colspan", "1", "1"}, {"td", "rowspan", "1000", "1000"}, {"th", "colspan", "2", "2"}, {"th", "rowspan", "3", "3"},
 		{"meter", "max", "1.50", "1.5"}, {"meter", "high", "-0", "0"}, {"meter", "low", ".5", "0.5"}, {"meter", "min", "1e21", "1e+21"}, {"progress", "max", "12.5E+1", "125"}, {"progress", "value", "1e-7", "1e-7"},
 		{"p", "title", long, long}, {"p", "title", strings.Repeat("&", 24), strings.Repeat("&", 24)}, {"p", "title", "\u00a0" + long[:114], "\u00a0" + long[:114]}, {"p", "title", "\x00" + long, long}, {"a", "href", long + "  ", long}, {"p", "title", strings.Repeat("\"", 20), strings.Repeat("\"", 20)},
@@ -166,6 +166,15 @@ func nest(n int, kids ...api.Node) []api.Node {
 	return kids
 }
 
+// mixed are elements and texts by turns, n of them.
+func mixed(n int) []api.Node {
+	l := many(n)
+	for i := 1; i < n; i += 2 {
+		l[i] = x("a")
+	}
+	return l
+}
+
 func many(n int) []api.Node {
 	l := make([]api.Node, n)
 	for i := range l {
@@ -178,7 +187,7 @@ func many(n int) []api.Node {
 func TestHolds(t *testing.T) {
 	for i, n := range []api.Node{
 		tree(), titled(x("t")), tree(x("a"), e("p", x("b"), e("b", e("i", x("c")))), x("d")), tree(e("ul", e("li", e("ul"), x("a"))), e("ol")), tree(e("table", e("caption", x("c"), e("b")), e("tbody", e("tr", e("td", e("table")), e("th"))), e("tfoot"), e("thead"))), tree(e("hr"), e("br"), e("img"), e("blockquote", e("h1"), e("pre"))),
-		tree(with(e("a"), "dir", "ltr", "href", "/", "lang", "en", "title", "t")), tree(nest(30)...), tree(nest(29, x("x"))...), tree(many(996)...), tree(e("b", e("i")), e("b")), tree(x("a\t\n\u00a0")),
+		tree(with(e("a"), "dir", "ltr", "href", "/", "lang", "en", "title", "t")), tree(nest(30)...), tree(nest(29, x("x"))...), tree(many(996)...), tree(mixed(996)...), tree(e("b", e("i")), e("b")), tree(x("a\t\n\u00a0")),
 	} {
 		if !Holds(n) {
 			t.Errorf("tree %d does not hold", i)
@@ -202,7 +211,7 @@ func TestHoldsNot(t *testing.T) {
 		tree(x("")), tree(x("a"), x("b")), tree(x("a\x00")), tree(x("a\r")), tree(x("\u0085")), tree(x("\x7f")), tree(x("\x80")), tree(e("ul", x("a"))), tree(e("table", x(" "))), tree(e("br", x("a"))), tree(e("hr", e("br"))), tree(e("li")), tree(e("td")), tree(e("caption")), tree(e("body")), tree(e("html")), tree(e("font")), tree(e("script")), tree(e("title", x("a"))), tree(e("p", e("p"))), tree(e("p", e("hr"))), tree(e("b", e("div"))), tree(e("b", e("b"))), tree(e("b", e("i", e("b")))), tree(e("a", e("b", e("i", e("a"))))), tree(e("ul", e("ul"))), tree(e("table", e("tr"))), tree(e("table", e("tbody"), e("caption"))), tree(e("table", e("caption"), e("caption"))), tree(e("tbody", e("td"))), tree(e("")),
 		tree(with(e("a"), "href", "javascript:x")), tree(with(e("a"), "title", "1", "href", "/")), tree(with(e("a"), "href", "/", "href", "/")), tree(with(e("a"), "href", " /")), tree(with(e("p"), "dir", "RTL")), tree(with(e("meter"), "value", "1.0")), tree(with(e("p"), "onclick", "x")), tree(with(e("p"), "title", strings.Repeat("x", 121))), tree(with(e("a"), "dir", "ltr", "dir", "ltr")), tree(with(e("p"), "title", "\x00")),
 		inBody(func(n *api.Node) { n.Text = "x" }), inBody(func(n *api.Node) { n.Space = api.SpaceSVG }), inBody(func(n *api.Node) { n.Space = -1 }), inBody(func(n *api.Node) { n.Kind = 0 }), inBody(func(n *api.Node) { n.Kind = 9 }), inText(func(n *api.Node) { n.Name = "b" }), inText(func(n *api.Node) { n.Space = 1 }), inText(func(n *api.Node) { n.Attrs = list("a", "b") }), inText(func(n *api.Node) { n.Kids = []api.Node{x("a")} }),
-		tree(nest(31)...), tree(nest(30, x("x"))...), tree(many(997)...), tree(nest(1<<16 - 9)...), changed(titled(x("t")), func(n *api.Node) { n.Kids[1].Kids = many(995) }),
+		tree(nest(31)...), tree(nest(30, x("x"))...), tree(many(997)...), tree(mixed(997)...), tree(append(mixed(996), e("br"))...), tree(nest(1<<16 - 9)...), changed(titled(x("t")), func(n *api.Node) { n.Kids[1].Kids = many(995) }),
 	} {
 		if Holds(n) {
 			t.Errorf("tree %d holds", i)

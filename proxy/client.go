@@ -90,11 +90,7 @@ func (m *Machine) whole() {
 func (m *Machine) ClientEnd() {
 	switch m.phase {
 	case inHead:
-		if m.head.Text() == "" {
-			m.close()
-		} else {
-			m.fail(400)
-		}
+		m.leave(400)
 	case inBody:
 		m.fail(400)
 	case inAwait, inPage, inStream:

@@ -84,6 +84,7 @@ func TestTake(t *testing.T) {
 	}{
 		{"&#65;b", "A", 5}, {"&#x80z", "\u20ac", 5}, {"&#;", "", 0}, {"&#x110000;", "\ufffd", 10}, {"&#0", "\ufffd", 3}, {"", "", 0}, {"a&#65;", "", 0}, {"&", "", 0}, {"&#", "", 0}, {"&#x", "", 0}, {"&#x;", "", 0}, {"&#xg", "", 0}, {"&#a", "", 0}, {"&;", "", 0}, {"& amp;", "", 0},
 		{"&#X41;;", "A", 6}, {"&#x4a1", "\u04a1", 6}, {"&#65a", "A", 4}, {"&#x41g", "A", 5}, {"&#0000000000000065;", "A", 19}, {"&#00000000000000065;", "\x06", 18}, {"&#" + nines + ";x", "\ufffd", 19}, {"&#" + nines + "9;", "\ufffd", 18}, {"&#xffffffffffffffff;", "\ufffd", 20}, {"&#x0000000000000041F;", "A", 19}, {"&#1114111;", "\U0010ffff", 10}, {"&#xD800;", "\ufffd", 8}, {"&#65 ;", "A", 4},
+		{"&#xA;", "\n", 5}, {"&#xa", "\n", 4}, {"&#xF;", "\x0f", 5}, {"&#xf", "\x0f", 4}, {"&#6:", "\x06", 3}, {"&#6/", "\x06", 3}, {"&#x6@", "\x06", 4}, {"&#x6`", "\x06", 4}, {"&#x6G", "\x06", 4}, {"&#x6:", "\x06", 4},
 		{"&notin;x", "\u2209", 7}, {"&NotEqualTilde;", "\u2242\u0338", 15},
 	} {
 		for _, attr := range []bool{false, true} {
@@ -95,7 +96,7 @@ func TestTake(t *testing.T) {
 	for _, a := range []struct {
 		s, c string
 		n    int
-	}{{"&copy=", "\u00a9", 5}, {"&copyx", "\u00a9", 5}, {"&copyZ", "\u00a9", 5}, {"&copy1", "\u00a9", 5}, {"&notit", "\u00ac", 4}} {
+	}{{"&copy=", "\u00a9", 5}, {"&copyx", "\u00a9", 5}, {"&copyZ", "\u00a9", 5}, {"&copy1", "\u00a9", 5}, {"&copy0", "\u00a9", 5}, {"&copy9", "\u00a9", 5}, {"&copya", "\u00a9", 5}, {"&copyz", "\u00a9", 5}, {"&copyA", "\u00a9", 5}, {"&notit", "\u00ac", 4}} {
 		if c, n := Take(a.s, false); c != a.c || n != a.n {
 			t.Errorf("Take(%q, false): %q, %d", a.s, c, n)
 		}
@@ -103,7 +104,7 @@ func TestTake(t *testing.T) {
 			t.Errorf("Take(%q, true): %q, %d", a.s, c, n)
 		}
 	}
-	for s, want := range map[string]int{"&copy;=": 6, "&copy;x": 6, "&copy ": 5, "&copy": 5, "&copy-": 5, "&copy\xc3\xa9": 5, "&copy&": 5, "&copy\"": 5} {
+	for s, want := range map[string]int{"&copy;=": 6, "&copy;x": 6, "&copy ": 5, "&copy": 5, "&copy-": 5, "&copy/": 5, "&copy:": 5, "&copy@": 5, "&copy[": 5, "&copy`": 5, "&copy{": 5, "&copy\xc3\xa9": 5, "&copy&": 5, "&copy\"": 5} {
 		if c, n := Take(s, true); c != "\u00a9" || n != want {
 			t.Errorf("Take(%q, true): %q, %d", s, c, n)
 		}

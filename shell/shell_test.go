@@ -78,6 +78,24 @@ func TestWords(t *testing.T) {
 	say(t, s, "wash", "error 1", "wash  ", "error 1", "wash -", `<!DOCTYPE html><html><head><meta charset="utf-8"></head><body></body></html>`)
 }
 
+// X1: the sizes of its loop.
+func TestSizes(t *testing.T) {
+	s := New()
+	say(t, s, "open", "ok 0", `feed 0 POST / HTTP/1.1\r\nHost: a\r\nContent-Length: 8000\r\n\r\n`+strings.Repeat("x", 8000), "ok", "pick 0", "ok", "client 0", "state 0 requests 0 answers 0 held 974 written 0")
+	for i := 0; i < 9; i++ {
+		say(t, s, "pick 0", "ok")
+	}
+	say(t, s, "client 0", "state 0 requests 0 answers 0 held 4046 written 0")
+	s = first(t)
+	say(t, s, "uptake 0 99", "ok", `upfeed 0 HTTP/1.1 200 x\r\nContent-Length: 8000\r\n\r\n`+strings.Repeat("x", 2000), "ok")
+	for i := 0; i < 9; i++ {
+		say(t, s, "pick 0", "ok", "upfeed 0 "+strings.Repeat("x", 1000), "ok")
+	}
+	if got := s.Do("client 0"); !strings.HasSuffix(got, " written 4096") {
+		t.Errorf("what is written: %s", got)
+	}
+}
+
 // X2: the loop's errors.
 func TestErrors(t *testing.T) {
 	s := New()

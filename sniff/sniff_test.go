@@ -56,6 +56,7 @@ func TestPrescan(t *testing.T) {
 		// other tags
 		"<p a='>'><meta charset=utf-8>": u8, "<p a=\"><meta charset=utf-8>": none, "</p a='<meta charset=latin1>'><meta charset=utf-8>": u8, "<p/a='<meta charset=utf-8>'>": none, "<p>'<meta charset=utf-8>": u8, "<p<meta charset=utf-8>": none, "<é><meta charset=utf-8>": u8,
 		"<!x<meta charset=latin1><meta charset=utf-8>": u8, "</ <meta charset=latin1><meta charset=utf-8>": u8, "<?<meta charset=latin1><meta charset=utf-8>": u8, "<!><meta charset=utf-8>": u8, "</><meta charset=utf-8>": u8, "<! ": none, "<!-x><meta charset=utf-8>": u8, "<script><meta charset=utf-8>": u8, "<1<meta charset=utf-8>": u8,
+		"<a=\"><meta charset=utf-8>": u8, "<a=' x='>'><meta charset=utf-8>": u8, "</p a='><meta charset=utf-8>'><meta charset=latin1>": latin, "<a x='><meta charset=utf-8>'>": none, "<z x='><meta charset=utf-8>'>": none, "<A x='><meta charset=utf-8>'>": none, "</z x='><meta charset=utf-8>'>": none, "<@ x='><meta charset=utf-8>'>": u8, "<[ x='><meta charset=utf-8>'>": u8, "<{ x='><meta charset=utf-8>'>": u8,
 		// N5: what stands behind the first bytes
 		pad[:1004] + "<meta charset=utf-8>": u8, pad[:1005] + "<meta charset=utf-8>": none, pad + "<meta charset=utf-8>": none,
 	} {

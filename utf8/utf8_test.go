@@ -16,7 +16,7 @@ func TestDecode(t *testing.T) {
 	for s, want := range map[string]string{
 		"": "", "A\xE2\x82\xAC": "A\u20ac", "\xE2\x82A": f + "A", "\xF0\x80A": f + f + "A", "\xED\xA0\x80": f + f + f,
 		"\xF4\x8F\xBF\xBF": "\U0010ffff", "\xF4\x90\x80\x80": f + f + f + f, "\xC0\x80": f + f, "\xC1\xBF": f + f, "\xE0\x9F\xBF": f + f + f, "\xE0\xA0": f, "\xF0\x8F\xBF\xBF": f + f + f + f,
-		"\xF0\x90\x80": f, "\xF0\x90\x80\xF0\x90\x80\x80": f + "\U00010000", "\xF1\x80\x80": f, "\xF5\x80": f + f, "\xFF\xFE": f + f, "\x80\xBF": f + f, "\xC3": f, "\xC3\xC3\xA9": f + "é", "\xE2\x82\xE2\x82": f + f, "\xED\x9F\xBF\xEE\x80\x80": "\ud7ff\ue000", "\x00\x7f": "\x00\x7f", "\xC2\x80\xDF\xBF": "\u0080\u07ff", "\xEF\xBF\xBD": f,
+		"\xF0\x90\x80": f, "\xF0\x90\x80\xF0\x90\x80\x80": f + "\U00010000", "\xF1\x80\x80": f, "\xF5\x80": f + f, "\xFF\xFE": f + f, "\x80\xBF": f + f, "\xC3": f, "\xC3\xC3\xA9": f + "é", "\xE2\x82\xE2\x82": f + f, "\xED\x9F\xBF\xEE\x80\x80": "\ud7ff\ue000", "\x00\x7f": "\x00\x7f", "\xC2\x80\xDF\xBF": "\u0080\u07ff", "\xEF\xBF\xBD": f, "\xC3\xC0": f + f, "\xE0\xC0": f + f, "\xE1\xC0": f + f, "\xED\xA0": f + f, "\xF0\xC0": f + f, "\xF1\xC0": f + f, "\xF4\x90": f + f, "\xE1\x80\xC0": f + f, "\xF1\x80\x80\xC0": f + f,
 	} {
 		if d := Decode([]byte(s)); d != want {
 			t.Errorf("Decode(% x): % x; not % x", s, d, want)
@@ -145,7 +145,7 @@ func beginsOne(b []byte) bool {
 // U3: in whatever pieces, and against a reader that tries.
 func TestPieces(t *testing.T) {
 	rnd := rand.New(rand.NewSource(8))
-	some := []byte{'a', 0x7F, 0x80, 0x8F, 0x90, 0x9F, 0xA0, 0xBF, 0xC1, 0xC2, 0xDF, 0xE0, 0xE2, 0xED, 0xEF, 0xF0, 0xF1, 0xF4, 0xF5, 0xFF, 0xBD}
+	some := []byte{'a', 0x7F, 0x80, 0x8F, 0x90, 0x9F, 0xA0, 0xBF, 0xC0, 0xC1, 0xC2, 0xDF, 0xE0, 0xE2, 0xED, 0xEF, 0xF0, 0xF1, 0xF4, 0xF5, 0xFF, 0xBD}
 	for i := 0; i < 50000; i++ {
 		b := make([]byte, rnd.Intn(9))
 		for j := range b {

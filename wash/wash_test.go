@@ -91,6 +91,18 @@ func TestPageErrors(t *testing.T) {
 	}
 }
 
+// W2: a page of just as many bytes as may be, and of one more.
+func TestPageLongest(t *testing.T) {
+	room := api.MaxPage - len(none+end)
+	body := strings.Repeat("&", room/5) + strings.Repeat("a", room%5)
+	if got, e := Page([]byte(body), ""); e != api.OK || len(got) != api.MaxPage {
+		t.Errorf("the longest page: %d, %d bytes", e, len(got))
+	}
+	if got, e := Page([]byte(body+"a"), ""); e != api.ErrPage || len(got) != 0 {
+		t.Errorf("one byte more: %d, %d bytes", e, len(got))
+	}
+}
+
 // checkPage checks what each washed page is, and that it is washed already.
 func checkPage(t *testing.T, body string, page []byte) {
 	t.Helper()
