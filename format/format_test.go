@@ -347,6 +347,7 @@ func TestAdoptNumbers(t *testing.T) {
 		{"body b p i p", []int{2, 4}, 6, []int{6, 4}, []int{1, 3, 6, 4, 5}, "<body><b></b><p><b><i><p></p></i></b></p></body>"},
 		{"body b s i u em p p", []int{3, 2, 4, 5, 6}, 12, []int{11, 10, 9, 12}, []int{1, 11, 10, 9, 7, 12, 8}, "<body><b><s><i><u><em></em></u></i></s></b><i><u><em><p><b></b><p></p></p></em></u></i></body>"},
 		{"body b s i u em p p", []int{2, 6, 3, 4, 5}, 12, []int{9, 12, 11, 10}, []int{1, 11, 10, 9, 7, 12, 8}, "<body><b><s><i><u><em></em></u></i></s></b><i><u><em><p><b></b><p></p></p></em></u></i></body>"},
+		{"body b s i u em p p", []int{3, 2, 4, 5, 6, 1}, 12, []int{11, 10, 9, 12, 1}, []int{1, 11, 10, 9, 7, 12, 8}, "<body><b><s><i><u><em></em></u></i></s></b><i><u><em><p><b></b><p></p></p></em></u></i></body>"},
 		{"body b i u p p", []int{4, 3, 2}, 9, []int{7, 9, 8}, []int{1, 8, 7, 5, 9, 6}, "<body><b><i><u></u></i></b><i><u><p><b></b><p></p></p></u></i></body>"},
 	} {
 		w := begin(a.most)
