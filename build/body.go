@@ -13,12 +13,6 @@ func (b *Builder) named(node int, names ...string) bool {
 	return b.tree.Is(node) && space == api.SpaceHTML && slices.Contains(names, name)
 }
 
-// special tells whether an element is special.
-func (b *Builder) special(node int) bool {
-	space, name, _ := b.tree.What(node)
-	return b.tree.Is(node) && open.Special(space, name)
-}
-
 func (b *Builder) body(m *api.Mark) bool {
 	switch m.Kind {
 	case api.MarkText:
@@ -92,13 +86,13 @@ func (b *Builder) bodyStart(m *api.Mark) {
 func (b *Builder) item(m *api.Mark, names ...string) {
 	all := b.stack.All()
 	for i := len(all) - 1; i >= 0; i-- {
-		if b.named(all[i], names...) {
-			_, name, _ := b.tree.What(all[i])
+		space, name, _ := b.tree.What(all[i])
+		if space == api.SpaceHTML && slices.Contains(names, name) {
 			b.stack.Imply(name)
 			b.stack.Until(name)
 			break
 		}
-		if b.special(all[i]) && !b.named(all[i], "address", "div", "p") {
+		if open.Special(space, name) && name != "address" && name != "div" && name != "p" {
 			break
 		}
 	}
@@ -213,12 +207,13 @@ func (b *Builder) otherEnd(name string) {
 	}
 	all := b.stack.All()
 	for i := len(all) - 1; i >= 0; i-- {
-		if b.named(all[i], name) {
+		space, n, _ := b.tree.What(all[i])
+		if space == api.SpaceHTML && n == name {
 			b.stack.Imply(name)
 			b.closeTo(i)
 			return
 		}
-		if b.special(all[i]) {
+		if open.Special(space, n) {
 			return
 		}
 	}
